@@ -1,0 +1,1 @@
+"""A rewriter of machine code that leaves a paper."""

@@ -1,0 +1,117 @@
+"""What can be seen of the rules of the language without reading: sizes, signs, imports, names."""
+
+import ast
+import builtins
+import pathlib
+import re
+import sys
+import unittest
+
+import restitch
+
+FOLDER = pathlib.Path(restitch.__file__).parent
+FILES = sorted(FOLDER.glob("*.py"))
+BUILTINS = set(
+    "len range enumerate zip min max sum abs sorted reversed int str bool bytes list tuple dict set "
+    "frozenset isinstance ord repr any all divmod pow getattr hasattr setattr iter next map property super "
+    "Exception ValueError TypeError KeyError IndexError LookupError ZeroDivisionError ArithmeticError "
+    "OverflowError RuntimeError NotImplementedError AttributeError StopIteration NotImplemented".split()
+)
+LIBRARY = {"heapq", "math", "itertools", "collections"}
+NOWHERE = {"register", "mro", "elements", "open", "input", "law", "version_info", "with_traceback", "add_note"}
+BARRED = re.compile(
+    r"\b(type|typing|typing_extensions|enum|Enum|IntEnum|StrEnum|Flag|IntFlag|Generic|Protocol|ABC|ABCMeta|"
+    r"namedtuple|NamedTuple|TypedDict|TYPE_CHECKING|abstractmethod)\b|dataclass|overload|contextmanager|_wall"
+)
+
+
+def trees():
+    return [(path.name, ast.parse(path.read_text())) for path in FILES]
+
+
+def nodes(*kinds):
+    return [(name, node) for name, tree in trees() for node in ast.walk(tree) if isinstance(node, kinds)]
+
+
+class Language(unittest.TestCase):
+    def test_the_folder_holds_files_of_python_only(self):
+        self.assertGreaterEqual({path.name for path in FILES}, {"__init__.py", "codes.py", "machine.py", "memory.py"})
+        self.assertLessEqual(len(FILES), 100)
+        for path in FOLDER.iterdir():
+            if path.name != "__pycache__":
+                self.assertRegex(path.name, r"^[a-z0-9_]+\.py$")
+                self.assertNotIn(path.stem, set(dir(builtins)) | set(sys.stdlib_module_names) - {"__init__"})
+
+    def test_sizes_and_characters(self):
+        for path in FILES:
+            lines = path.read_text().splitlines()
+            self.assertLessEqual(len(lines), 399, path.name)
+            for number, line in enumerate(lines, 1):
+                self.assertLessEqual(len(line), 120, (path.name, number))
+                self.assertRegex(line, r"^[ -~]*$", (path.name, number))
+        for name, node in nodes(ast.FunctionDef):
+            self.assertLessEqual(node.end_lineno - node.lineno + 1, 40, (name, node.name))
+
+    def test_imports(self):
+        for name, tree in trees():
+            for node in ast.walk(tree):
+                self.assertNotIsInstance(node, ast.Import, name)
+                if isinstance(node, ast.ImportFrom):
+                    self.assertIn(node, tree.body)
+                    self.assertEqual(node.level, 0)
+                    self.assertTrue(node.module.startswith("restitch.") or node.module in LIBRARY, node.module)
+                    self.assertNotIn("*", [alias.name for alias in node.names])
+
+    def test_statements(self):
+        wrong = (
+            ast.Global, ast.AsyncFunctionDef, ast.AsyncFor, ast.AsyncWith, ast.Await, ast.SetComp, ast.Div,
+            ast.TryStar, ast.Starred,
+        )
+        for name, node in nodes(*wrong):
+            # A star and a set comprehension are allowed where a literal or sorted(..) has them.
+            self.assertIsInstance(node, (ast.SetComp, ast.Starred), (name, node.lineno))
+        for name, node in nodes(ast.Constant):
+            self.assertNotIsInstance(node.value, (float, complex), (name, node.lineno))
+            if isinstance(node.value, str):
+                self.assertNotIn("%", node.value, (name, node.lineno))
+
+    def test_module_level(self):
+        for name, tree in trees():
+            for place, node in enumerate(tree.body):
+                plain = (ast.ImportFrom, ast.FunctionDef, ast.ClassDef, ast.Assign)
+                if place > 0 or not isinstance(node, ast.Expr):
+                    self.assertIsInstance(node, plain, (name, node.lineno))
+                if isinstance(node, ast.Assign):
+                    self.assertEqual(len(node.targets), 1)
+                    self.assertFalse([part for part in ast.walk(node) if isinstance(part, (ast.Call, ast.Lambda))])
+
+    def test_names(self):
+        for name, node in nodes(ast.Name):
+            if hasattr(builtins, node.id):
+                self.assertIn(node.id, BUILTINS, (name, node.lineno))
+                self.assertIsInstance(node.ctx, ast.Load, (name, node.lineno))
+            self.assertNotIn(node.id, NOWHERE, (name, node.lineno))
+        for name, node in nodes(ast.arg):
+            self.assertFalse(hasattr(builtins, node.arg), (name, node.arg))
+        for name, node in nodes(ast.Attribute):
+            self.assertNotIn(node.attr, NOWHERE, (name, node.lineno))
+        for path in FILES:
+            self.assertIsNone(BARRED.search(path.read_text()), path.name)
+
+    def test_no_module_imports_itself_through_others(self):
+        uses = {
+            name[:-3]: {
+                node.module.split(".")[1] for node in tree.body
+                if isinstance(node, ast.ImportFrom) and node.module.startswith("restitch.")
+            }
+            for name, tree in trees()
+        }
+        while uses:
+            free = [name for name in uses if not uses[name] & set(uses)]
+            self.assertTrue(free, sorted(uses))
+            for name in free:
+                del uses[name]
+
+
+if __name__ == "__main__":
+    unittest.main()
