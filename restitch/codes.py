@@ -1,5 +1,7 @@
 """Instructions and their words."""
 
+from restitch.kinds import is_number
+
 OPS = (
     "add", "sub", "mul", "and", "or", "xor", "shl", "shr", "sar", "slt", "sltu", "divu", "remu",
     "addi", "andi", "ori", "xori", "shli", "shri", "sari", "slti",
@@ -29,6 +31,47 @@ FORMS = {
 
 LOW_14 = 2 ** 14 - 1
 LOW_18 = 2 ** 18 - 1
+
+# The least and the greatest operand of each kind.
+BOUNDS = {
+    "d": (0, 15), "s": (0, 15), "i": (-2 ** 13, 2 ** 13 - 1), "j": (-2 ** 17, 2 ** 17 - 1),
+    "u": (0, LOW_18),
+}
+
+LOADS = ("lw", "lb", "lbu")
+STORES = ("sw", "sb")
+BRANCHES = ("beq", "bne", "blt", "bge", "bltu", "bgeu")
+
+# The op of two registers that gives what an op with an immediate gives.
+OPS_OF_IMMEDIATES = {
+    "addi": "add", "andi": "and", "ori": "or", "xori": "xor", "shli": "shl", "shri": "shr",
+    "sari": "sar", "slti": "slt",
+}
+
+
+def is_operand(kind, value):
+    """True for an operand that an instruction may have in a place of this kind."""
+    if not is_number(value):
+        return False
+    low, high = BOUNDS[kind]
+    return low <= value <= high
+
+
+def is_instruction(value):
+    """True for an instruction, whatever plain value is asked about."""
+    if not isinstance(value, tuple) or len(value) == 0:
+        return False
+    if not isinstance(value[0], str) or value[0] not in FORMS:
+        return False
+    kinds = FORMS[value[0]]
+    if len(value) != len(kinds) + 1:
+        return False
+    return all([is_operand(kind, operand) for kind, operand in zip(kinds, value[1:])])
+
+
+def plain_op(op):
+    """The op of two registers that computes the same."""
+    return OPS_OF_IMMEDIATES.get(op, op)
 
 
 def encode(instruction):

@@ -40,3 +40,23 @@ def load_constant(number, word):
         low -= 16384
     high = ((word - low) & TOP) >> 14
     return [("lui", number, high), ("addi", number, number, low)]
+
+
+ZERO = ("words", (0,))
+
+
+def row(*words):
+    """The fact of a row of words."""
+    return ("words", words)
+
+
+def span(low, high):
+    return ("range", low, high)
+
+
+def facts_of(**known):
+    """16 facts: facts_of(r3=row(1, 2)) tells of register 3, and of register 0 that it is 0."""
+    return (ZERO, *[known.get(f"r{number}") for number in range(1, 16)])
+
+
+ZEROS = (ZERO,) * 16
