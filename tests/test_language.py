@@ -24,6 +24,27 @@ BARRED = re.compile(
     r"namedtuple|NamedTuple|TypedDict|TYPE_CHECKING|abstractmethod)\b|dataclass|overload|contextmanager|_wall"
 )
 
+INTERFACE = {
+    "codes": "encode decode OPS reads writes",
+    "memory": "image_faults find_segment can_load can_store can_fetch load_word store_word word_at",
+    "machine": "compute holds start step run last_state trace",
+    "text": "show_instruction show_code assemble",
+    "image": "pack_image unpack_image",
+    "link": "name_at address_of link",
+    "blocks": "ends_block leaders code_blocks code_loops",
+    "descent": "descend calls routines call_graph",
+    "tables": "jump_tables",
+    "values": "allows within meet join_facts result decided",
+    "ways": "is_place places ways allowed_targets",
+    "holding": "plain facts_at holds_table",
+    "solve": "solve",
+    "book": "book_faults targets_of_end",
+    "runbook": "run_book last_of_book",
+    "layout": "lay pack unpack",
+    "symbols": "Pool",
+    "errors": "RestitchError AssemblyError BookError ImageError LinkError ScriptError UnknownWord",
+}
+
 
 def trees():
     return [(path.name, ast.parse(path.read_text())) for path in FILES]
@@ -97,6 +118,53 @@ class Language(unittest.TestCase):
             self.assertNotIn(node.attr, NOWHERE, (name, node.lineno))
         for path in FILES:
             self.assertIsNone(BARRED.search(path.read_text()), path.name)
+
+    def test_no_local_name_is_an_import_or_a_class_of_its_file(self):
+        for name, tree in trees():
+            taken = {alias.name for node in tree.body if isinstance(node, ast.ImportFrom) for alias in node.names}
+            taken |= {node.name for node in tree.body if isinstance(node, ast.ClassDef)}
+            for node in ast.walk(tree):
+                if isinstance(node, ast.arg):
+                    self.assertNotIn(node.arg, taken | NOWHERE, (name, node.lineno))
+                if isinstance(node, ast.Name) and isinstance(node.ctx, ast.Store):
+                    self.assertNotIn(node.id, taken, (name, node.lineno))
+
+    def test_module_level_names_are_bound_once(self):
+        for name, tree in trees():
+            bound = [alias.name for node in tree.body if isinstance(node, ast.ImportFrom) for alias in node.names]
+            bound += [node.name for node in tree.body if isinstance(node, (ast.FunctionDef, ast.ClassDef))]
+            bound += [node.targets[0].id for node in tree.body if isinstance(node, ast.Assign)]
+            self.assertEqual(len(bound), len(set(bound)), name)
+
+    def test_sets_stand_in_sorted_only(self):
+        for name, tree in trees():
+            allowed = [
+                id(inner) for node in ast.walk(tree) if isinstance(node, ast.Call) and isinstance(node.func, ast.Name)
+                and node.func.id in ("sorted", "len") for inner in node.args
+            ]
+            for node in ast.walk(tree):
+                called = isinstance(node, ast.Call) and isinstance(node.func, ast.Name) and node.func.id == "set"
+                if called or isinstance(node, (ast.Set, ast.SetComp)):
+                    self.assertIn(id(node), allowed, (name, node.lineno))
+
+    def test_no_function_calls_itself_straight(self):
+        for name, node in nodes(ast.FunctionDef):
+            for inner in ast.walk(node):
+                if isinstance(inner, ast.Call) and isinstance(inner.func, ast.Name):
+                    self.assertNotEqual(inner.func.id, node.name, (name, node.lineno))
+
+    def test_the_interface_is_defined_where_it_is_listed(self):
+        for name, words in INTERFACE.items():
+            tree = ast.parse((FOLDER / f"{name}.py").read_text())
+            found = {node.name for node in tree.body if isinstance(node, (ast.FunctionDef, ast.ClassDef))}
+            found |= {node.targets[0].id for node in tree.body if isinstance(node, ast.Assign)}
+            self.assertLessEqual(set(words.split()), found, name)
+
+    def test_the_methods_of_a_pool_are_defined_in_it(self):
+        tree = ast.parse((FOLDER / "symbols.py").read_text())
+        pool, = [node for node in tree.body if isinstance(node, ast.ClassDef) and node.name == "Pool"]
+        methods = {node.name for node in pool.body if isinstance(node, ast.FunctionDef)}
+        self.assertLessEqual({"term", "word", "node", "normal", "settled", "value_of"}, methods)
 
     def test_no_module_imports_itself_through_others(self):
         uses = {
