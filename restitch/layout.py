@@ -54,22 +54,20 @@ class Layout:
         """Makes those jumps long that must be."""
         more = True
         while more:
-            # Going against the direction of the jumps finds most that follow from each other at once.
-            more = self.stretch_forward_ones()
-            more = self.stretch_backward_ones() or more
+            # Each turn goes against the direction of its jumps, so that it need not be repeated
+            # unless the other one made a jump long.
+            self.stretch_forward_ones()
+            more = self.stretch_backward_ones()
 
     def stretch_forward_ones(self):
-        """One turn over the jumps to later blocks; True if one became long."""
-        more = False
+        """One turn over the jumps to later blocks."""
         behind = [0] * (len(self.jumps) + 1)
         for at in reversed(range(len(self.jumps))):
             words, _, _, half, target = self.jumps[at]
             start, ahead = self.starts[target]
             if self.longs[at] == 0 and ahead > at and start - words + behind[at + 1] - behind[ahead] >= half:
                 self.longs[at] = 1
-                more = True
             behind[at] = behind[at + 1] + self.longs[at]
-        return more
 
     def stretch_backward_ones(self):
         """One turn over the jumps to the same block and to earlier ones; True if one became long."""
@@ -199,11 +197,7 @@ def _words_of(data):
 
 def _blocks(marks, code):
     """The blocks with the labels and offsets of the marks."""
-    labels = {}
-    for label, offset in marks:
-        if offset & 3 != 0:
-            raise BookError("an offset is no multiple of 4")
-        labels[offset // 4] = label
+    labels = {offset // 4: label for label, offset in marks}
     found = []
     for index, (label, offset) in enumerate(marks):
         start = offset // 4
@@ -239,9 +233,7 @@ def _line(word, following):
     if number == LOAD_WORD:
         return ("li", word & LOW_26, following)
     instruction = decode(word)
-    if instruction is None or instruction[0] == "exit":
-        return None
-    return ("do", instruction, following)
+    return None if instruction is None else ("do", instruction, following)
 
 
 class Stretch:
@@ -275,7 +267,7 @@ class Stretch:
 
 
 def _end(stretch, labels, following):
-    """The end of a block, which takes all of its words."""
+    """The end of a block; what does not fit it shows when the book is packed again."""
     if stretch.is_empty():
         return ("go", following)
     word = stretch.take()
@@ -283,18 +275,14 @@ def _end(stretch, labels, following):
     if number == THROUGH:
         imm = word & LOW_14
         imm = imm - 2 * HALF_OF_IF if imm >= HALF_OF_IF else imm
-        end = ("through", (word >> 18) & 15, imm, (word >> 22) & 15, stretch.take())
-    elif number == TRAP:
-        end = ("trap", TRAPS[word & 3], stretch.take())
-    elif number in (SHORT_GO, LONG_GO):
-        end = _end_of_go(stretch, word, labels)
-    elif LONG_IF <= number < BEYOND_SHORT_IF:
-        end = _end_of_if(stretch, word, labels, following)
-    else:
-        end = decode(word)
-    if end is None or not stretch.is_empty():
-        raise BookError("a block does not end where the next one begins")
-    return end
+        return ("through", (word >> 18) & 15, imm, (word >> 22) & 15, stretch.take())
+    if number == TRAP:
+        return ("trap", TRAPS[word & 3], stretch.take())
+    if number in (SHORT_GO, LONG_GO):
+        return _end_of_go(stretch, word, labels)
+    if LONG_IF <= number < BEYOND_SHORT_IF:
+        return _end_of_if(stretch, word, labels, following)
+    return decode(word)
 
 
 def _end_of_go(stretch, word, labels):
@@ -309,8 +297,5 @@ def _end_of_if(stretch, word, labels, following):
     first = stretch.take_label(labels, word & LOW_14, half)
     second = following
     if not stretch.is_empty():
-        more = stretch.take()
-        if more >> 26 not in (SHORT_GO, LONG_GO):
-            raise BookError("a block goes on behind its end")
-        second = _end_of_go(stretch, more, labels)[1]
+        second = _end_of_go(stretch, stretch.take(), labels)[1]
     return ("if", op, (word >> 22) & 15, (word >> 18) & 15, first, second)

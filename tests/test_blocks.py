@@ -120,6 +120,11 @@ class Blocks(unittest.TestCase):
     def test_words_that_are_illegal(self):
         self.assertEqual(self.of([("get", 1), 0, ("put", 1)]), [(0, 2, ())])
 
+    def test_places_that_no_leader_s_block_reaches(self):
+        for word in (0, ("exit", 1)):
+            image = image_of([("get", 1), word, ("put", 1), ("exit", 2)])
+            self.assertEqual(code_blocks(image, plain(image)), [(0, 2, ())])
+
     def test_targets_that_are_no_places(self):
         self.assertEqual(self.of([("get", 1), ("beq", 1, 0, 9), ("jal", 0, 9)]), [(0, 2, (8,)), (8, 1, ())])
 

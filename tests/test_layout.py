@@ -275,6 +275,15 @@ class Pack(unittest.TestCase):
         blocks = tuple((label, body if label % 2 else (), end) for label, end in enumerate(ends))
         self.assertEqual(unpack(pack((blocks, 0, ()))), (blocks, 0, ()))
 
+    def test_jumps_at_their_bounds(self):
+        for gap in (8189, 8190, 8191, 8192, 8193, 32765, 32766, 32767, 32768, 32769):
+            for end in (("go", 2), ("if", "bge", 1, 2, 2, 1), ("if", "bge", 1, 2, 1, 2)):
+                book = (((0, (LI,), end), (1, filler(gap - 1), EXIT), (2, (), EXIT)), 0, ())
+                self.assertEqual(unpack(pack(book)), book)
+            for end in (("go", 0), ("if", "bge", 1, 2, 0, 2), ("if", "bge", 1, 2, 2, 0), ("if", "bge", 1, 2, 0, 0)):
+                book = (((0, filler(gap - 1), EXIT), (1, (), end), (2, (), EXIT)), 0, ())
+                self.assertEqual(unpack(pack(book)), book)
+
     def test_arguments_stay_as_they_were(self):
         data = pack(BOOK)
         kept = list(data)

@@ -109,6 +109,16 @@ class Solve(unittest.TestCase):
         image = image_of([("addi", 1, 1, 1)] * 16383 + [("jal", 0, -16383)])
         self.assertEqual(solve(image), plain(image))
 
+    def test_a_hundred_thousand_steps(self):
+        # Seven turns of a loop of 14285 words, and one step for each word ahead of it.
+        for ahead, enough in ((5, True), (6, False)):
+            image = image_of([
+                *[("addi", 2, 0, 7)] * ahead, ("addi", 1, 1, 1), ("remu", 1, 1, 2), *[("put", 1)] * 14282, ("jal", 0, -14284),
+            ])
+            table = solve(image)
+            self.assertIs(table != plain(image), enough)
+            self.assertEqual(facts_at(table, 4 * ahead)[1], row(*range(7)) if enough else None)
+
     def test_the_image_stays_as_it_was(self):
         image = counting(5)
         solve(image)

@@ -49,9 +49,21 @@ class Tables(unittest.TestCase):
         self.assertEqual(self.read(("lw", 2, 1, 0), row(64, 68, 72), constant), [(0, ((64, 0), (68, 4), (72, 8)))])
 
     def test_addresses_outside(self):
-        constant = constant_segment(64, bytes_of([0, 4, 8]))
-        for fact in (row(60, 64), row(72, 76), row(64, 66), row(65, 69)):
+        constant = constant_segment(64, (0,) * 12)
+        for fact in (row(60, 64), row(72, 76), row(64, 66), row(65, 69), row(64, 73)):
             self.assertEqual(self.read(("lw", 2, 1, 0), fact, constant), [])
+
+    def test_words_that_are_writable_although_their_facts_are_a_row(self):
+        words = bytes_of([0, 4])
+        self.assertEqual(self.read(("lw", 2, 1, 0), row(64, 68), data_segment(64, words)), [])
+        others = constant_segment(60, (0,) * 4), data_segment(64, words)
+        self.assertEqual(self.read(("lw", 2, 1, 0), row(60, 64), *others), [])
+
+    def test_words_of_four_bytes(self):
+        high = 2 ** 31 + 64
+        image = image_of([("lw", 2, 1, 0), ("exit", 0)], constant_segment(0, bytes_of([high, high + 4])), address=high)
+        rows = ((0, high), (4, high + 4))
+        self.assertEqual(jump_tables(image, ((high, facts_of(r1=row(0, 4))),)), [(high, rows)])
 
     def test_addresses_that_wrap(self):
         constant = constant_segment(64, bytes_of([4, 8]))

@@ -92,6 +92,10 @@ class Lines(unittest.TestCase):
         wanted = [("get", 1), ("beq", 1, 0, 3), ("put", 1), ("jal", 0, -3), ("exit", 1)]
         self.assertEqual(assemble(text), [encode(instruction) for instruction in wanted])
 
+    def test_lines_that_are_no_words_do_not_count_between_a_jump_and_its_label(self):
+        text = "beq r1, r2, end\n\n# remark\n  # remark:\nother:\nword 7\n\nend:\nget r1\n#\njal r0, other"
+        self.assertEqual(assemble(text), [encode(("beq", 1, 2, 2)), 7, encode(("get", 1)), encode(("jal", 0, -2))])
+
     def test_the_example_of_the_document(self):
         words = assemble("get r1\nbeq r1, r0, 3\nput r1\njal r0, -3\nexit r1")
         self.assertEqual([decode(word)[0] for word in words], ["get", "beq", "put", "jal", "exit"])

@@ -127,6 +127,12 @@ class Join(unittest.TestCase):
         self.assertEqual(join_facts(row(*range(15)), row(TOP)), row(*range(15), TOP))
         self.assertIsNone(join_facts(row(*range(16)), row(TOP)))
 
+    def test_no_word_at_all(self):
+        for fact in FACTS:
+            self.assertEqual(join_facts(row(), fact), fact)
+            self.assertEqual(join_facts(fact, row()), fact)
+        self.assertEqual(join_facts(row(), row()), row())
+
     def test_some_pairs(self):
         cases = (
             (row(1, 3), row(2, 3), row(1, 2, 3)), (row(9), span(1, 3), span(1, 9)), (span(1, 3), row(2), span(1, 3)),
@@ -163,7 +169,7 @@ class Results(unittest.TestCase):
     def test_rows_of_more_than_64_pairs_go_by_their_bounds(self):
         a, b = row(*range(16)), row(*range(5))
         self.check("add", [(a, b, span(0, 19)), (b, a, span(0, 19))])
-        self.check("mul", [(a, b, None)])
+        self.check("mul", [(a, b, None), (row(*range(13)), b, None), (a, row(*range(4)), span(0, 45))])
         self.check("and", [(a, b, span(0, 4))])
         self.check("slt", [(a, b, row(0, 1))])
         self.check("sub", [(row(*range(20, 36)), b, span(16, 35)), (a, b, None)])
@@ -215,6 +221,8 @@ class Results(unittest.TestCase):
             (span(1, 3), row(2), span(4, 12)), (span(1, 3), row(34), span(4, 12)), (span(0, 2 ** 31 - 1), row(1), span(0, TOP - 1)),
             (span(0, 2 ** 31), row(1), None), (None, row(0), None), (None, row(1), None), (span(1, 3), row(0), span(1, 3)),
             (span(1, 3), row(1, 2), None), (span(0, 1), row(31), span(0, 2 ** 31)), (span(1, 2), row(31), None),
+            (span(1, TOP), row(0), span(1, TOP)), (span(1, TOP), row(32), span(1, TOP)), (span(3, 5), row(1), span(6, 10)),
+            (span(1, 2), row(30), span(2 ** 30, 2 ** 31)), (span(2, 3), row(30), span(2 ** 31, 3 * 2 ** 30)), (span(3, 4), row(30), None),
         ])
 
     def test_divu(self):
