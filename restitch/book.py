@@ -20,6 +20,10 @@ def is_label(value):
     return _is_item("l", value)
 
 
+def is_counter(value):
+    return _is_item("c", value)
+
+
 def _is_item(kind, value):
     """True for a value that may stand where an item of this kind is."""
     if kind in BOUNDS_OF_ITEMS:

@@ -74,6 +74,11 @@ def plain_op(op):
     return OPS_OF_IMMEDIATES.get(op, op)
 
 
+def is_alu(op):
+    """True for an op whose result is computed from words alone, without memory or input."""
+    return FORMS[op] == "dss" or op in OPS_OF_IMMEDIATES
+
+
 def encode(instruction):
     """The word of an instruction."""
     op = instruction[0]

@@ -1,6 +1,5 @@
 """Runs of books."""
 
-from restitch.kinds import MASK
 from restitch.machine import ACTIONS, GOES_ON, Core, holds, start
 from restitch.memory import can_fetch
 

@@ -3,17 +3,25 @@
 import random
 import unittest
 
-from helpers import image_of
+from helpers import data_segment, image_of
 from restitch.blocks import code_blocks, code_loops, leaders
+from restitch.checker import check, refusal
+from restitch.codes import OPS
+from restitch.copies import copies
+from restitch.dead import dead, wanted
 from restitch.descent import call_graph, calls, descend, routines
+from restitch.first import first_book
 from restitch.holding import facts_at, holds_table, plain
 from restitch.image import pack_image, unpack_image
-from restitch.layout import lay
+from restitch.known import known, reuse
+from restitch.layout import lay, pack, unpack
 from restitch.runbook import last_of_book, run_book
 from restitch.solve import solve
 from restitch.tables import jump_tables
 from restitch.text import assemble, show_code
+from restitch.tidy import drop, join, order
 from restitch.ways import places
+from restitch.weave import weave
 
 MOST = 16384
 
@@ -72,6 +80,55 @@ class Images(unittest.TestCase):
         lines = show_code(image, 0, MOST)
         words = assemble("\n".join(line.partition(": ")[2] for line in lines))
         self.assertEqual(image_of(words), image)
+
+
+class Rewritings(unittest.TestCase):
+    """Each rewriting of first books that are as large as an image lets them be."""
+
+    def check_all(self, image, whole=False):
+        pair = first_book(image, whole=whole)
+        self.assertIsNone(refusal(image, *pair))
+        for function, amounts in (
+            (order, (0,)), (drop, (0,)), (dead, (0,)), (known, (1000, 10 ** 6)), (reuse, (10 ** 6,)), (copies, (8,)), (weave, (0,)), (join, (10 ** 6,)),
+        ):
+            for amount in amounts:
+                pair = function(image, *pair, amount=amount)
+            self.assertIs(check(image, *pair), True, function.__name__)
+        self.assertEqual(unpack(pack(pair[0])), pair[0])
+        self.assertEqual(set(wanted(image, *pair)), {row[0] for row in pair[1][1]})
+        return pair
+
+    def test_a_large_image(self):
+        image = image_of(large_code())
+        book, _ = self.check_all(image)
+        self.assertGreater(len(book[0]), 100)
+        self.check_all(image, whole=True)
+
+    def test_jumps_to_any_place(self):
+        code = [("get", 9)] + [("jalr", place & 1, 9, place % 8000) for place in range(1, MOST)]
+        book, paper = self.check_all(image_of(code))
+        self.assertEqual((len(book[0]), len(book[2])), (MOST, MOST))
+
+    def test_one_block_of_many_lines(self):
+        chance = random.Random(7)
+
+        def reg():
+            return chance.randrange(16)
+        code = [("get", 1), ("get", 2)]
+        while len(code) < MOST - 200:
+            code.append(chance.choice((
+                (chance.choice(OPS[:13]), reg(), reg(), reg()), (chance.choice(OPS[13:21]), reg(), reg(), chance.randint(-20, 50)),
+                (chance.choice(("lw", "lb", "lbu")), reg(), chance.choice((0, reg())), 4000), ("sb", reg(), 0, 4004), ("put", reg()), ("get", reg()),
+            )))
+        image = image_of([*code, ("exit", 1)], data_segment(4000, (7,) * 64), address=8192)
+        book, paper = self.check_all(image)
+        self.assertEqual(len(book[0]), 1)
+        self.assertLess(len(book[0][0][1]), len(code))
+
+    def test_a_chain_of_jumps(self):
+        book, paper = self.check_all(image_of([("jal", 0, 1)] * (MOST - 1) + [("exit", 0)]))
+        self.assertEqual(sum(row[3] for row in paper[1]) >= MOST, True)
+        self.assertLessEqual(max(row[3] for row in paper[1]), 400)
 
 
 class Books(unittest.TestCase):

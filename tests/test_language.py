@@ -42,6 +42,15 @@ INTERFACE = {
     "runbook": "run_book last_of_book",
     "layout": "lay pack unpack",
     "symbols": "Pool",
+    "walk": "old_way body_way settle",
+    "checker": "check refusal row_of",
+    "first": "first_book",
+    "weave": "count_places weave counted",
+    "house": "WORDS rewrite read_script show_script House",
+    "tidy": "order join drop",
+    "known": "known reuse",
+    "dead": "dead wanted",
+    "copies": "copies",
     "errors": "RestitchError AssemblyError BookError ImageError LinkError ScriptError UnknownWord",
 }
 
@@ -165,6 +174,27 @@ class Language(unittest.TestCase):
         pool, = [node for node in tree.body if isinstance(node, ast.ClassDef) and node.name == "Pool"]
         methods = {node.name for node in pool.body if isinstance(node, ast.FunctionDef)}
         self.assertLessEqual({"term", "word", "node", "normal", "settled", "value_of"}, methods)
+
+    def test_the_methods_of_a_house_are_defined_in_it(self):
+        tree = ast.parse((FOLDER / "house.py").read_text())
+        home, = [node for node in tree.body if isinstance(node, ast.ClassDef) and node.name == "House"]
+        methods = {node.name: [ast.unparse(found) for found in node.decorator_list] for node in home.body if isinstance(node, ast.FunctionDef)}
+        self.assertLessEqual({"apply", "undo", "book", "paper", "play", "size", "parts"}, set(methods))
+        self.assertEqual({name: found for name, found in methods.items() if found}, {"book": ["property"], "paper": ["property"]})
+
+    def test_methods_and_attributes(self):
+        taken = {name for kind in (str, int, list, dict, set, bytes, tuple) for name in dir(kind)}
+        may_be = {"append", "clear", "extend", "insert", "pop", "remove", "reverse", "setdefault", "update", "add", "discard", "__init__"}
+        for name, node in nodes(ast.ClassDef):
+            methods = {inner.name for inner in node.body if isinstance(inner, ast.FunctionDef)}
+            stored = {inner.attr for inner in ast.walk(node) if isinstance(inner, ast.Attribute) and isinstance(inner.ctx, ast.Store)}
+            self.assertFalse(methods & stored, (name, node.name))
+            self.assertFalse((methods | stored) & taken - may_be, (name, node.name))
+
+    def test_each_import_is_used(self):
+        for name, tree in trees():
+            brought = {alias.name for node in tree.body if isinstance(node, ast.ImportFrom) for alias in node.names}
+            self.assertLessEqual(brought, {node.id for node in ast.walk(tree) if isinstance(node, ast.Name)}, name)
 
     def test_no_module_imports_itself_through_others(self):
         uses = {
