@@ -1,8 +1,6 @@
 """Short blocks that are copied to where they are gone to."""
 
-from restitch.desk import Desk, Passage
-
-MOST_STEPS_TOGETHER = 400
+from restitch.desk import MOST_STEPS_TOGETHER, Desk, Passage
 
 
 def copies(image, book, paper, *, amount=8):

@@ -7,6 +7,8 @@ from restitch.symbols import Pool
 from restitch.walk import Code, Way, read_line
 from restitch.ways import places
 
+# Rewritings make no block of more steps than that out of two.
+MOST_STEPS_TOGETHER = 400
 OPPOSITES = {"beq": "bne", "bne": "beq", "blt": "bge", "bge": "blt", "bltu": "bgeu", "bgeu": "bltu"}
 
 

@@ -4,7 +4,6 @@ from restitch.codes import LOADS, OPS_OF_IMMEDIATES, STORES
 from restitch.kinds import MASK
 from restitch.settling import Foresight
 
-EVENTS = ("lw", "lb", "lbu", "sw", "sb", "get", "put")
 WORD_SIZE = 4
 BYTE_SIZE = 1
 TOP_OF_BYTE = 24

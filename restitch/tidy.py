@@ -3,9 +3,7 @@
 from heapq import heappop, heappush
 
 from restitch.book import targets_of_end
-from restitch.desk import Desk, Passage
-
-MOST_STEPS_TOGETHER = 400
+from restitch.desk import MOST_STEPS_TOGETHER, Desk, Passage
 
 
 def order(image, book, paper, *, amount=0):
